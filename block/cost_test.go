@@ -7,13 +7,14 @@ import (
 
 	"concertina/api"
 	"concertina/block"
+	"concertina/internal/sample"
 )
 
 // P10.2: a stored block costs its header up to the byte boundary, the length
 // twice, and its bytes.
 func TestCostOfStored(t *testing.T) {
 	for _, n := range []int{0, 1, 2, 7, 8, 255, 256, 10000, mostRaw - 1, mostRaw} {
-		if got := block.Cost(api.Stored, lits("abc"), noise(n)); got != 40+8*n {
+		if got := block.Cost(api.Stored, lits("abc"), sample.Noise(n)); got != 40+8*n {
 			t.Errorf("%d bytes: %d bits", n, got)
 		}
 	}
@@ -37,7 +38,7 @@ func TestCostOfFixed(t *testing.T) {
 		{[]api.Token{match(3, 32768)}, 35}, // with 13
 		{[]api.Token{lit('a'), match(11, 9), lit(255)}, 42},
 	} {
-		if got := block.Cost(api.Fixed, x.list, noise(5)); got != x.want {
+		if got := block.Cost(api.Fixed, x.list, sample.Noise(5)); got != x.want {
 			t.Errorf("%v: %d bits instead of %d", x.list, got, x.want)
 		}
 	}
@@ -48,7 +49,7 @@ func TestCostOfFixed(t *testing.T) {
 func TestCostOfAny(t *testing.T) {
 	random := rand.New(rand.NewSource(7))
 	for range 300 {
-		list, raw := someTokens(random, random.Intn(1<<random.Intn(11))), noise(random.Intn(3000))
+		list, raw := someTokens(random, random.Intn(1<<random.Intn(11))), sample.Noise(random.Intn(3000))
 		for kind := range 3 {
 			wantBlock(t, 0, kind, list, raw, false)
 			wantBlock(t, 8, kind, list, raw, true)
@@ -77,7 +78,7 @@ func TestWriteEachKind(t *testing.T) {
 	wantWrite(t, lits("abc"), []byte("abc"), api.Fixed)
 	wantWrite(t, lits("abc"), nil, api.Fixed)
 	wantWrite(t, lits("abcdef"), nil, api.Stored)
-	wantWrite(t, lits(noise(1000)), noise(1000), api.Stored)
+	wantWrite(t, lits(sample.Noise(1000)), sample.Noise(1000), api.Stored)
 	wantWrite(t, []api.Token{lit('a'), match(258, 1), match(258, 1)}, make([]byte, 517), api.Fixed)
 	text := slices.Repeat([]byte("aaabaaac"), 100)
 	wantWrite(t, lits(text), text, api.Dynamic)
@@ -90,7 +91,7 @@ func TestWriteAny(t *testing.T) {
 	seen := [3]int{}
 	for range 1000 {
 		list := someTokens(random, random.Intn(1<<random.Intn(11)))
-		raw := noise(random.Intn(2*len(list) + 10))
+		raw := sample.Noise(random.Intn(2*len(list) + 10))
 		want := best(list, raw)
 		wantWrite(t, list, raw, want)
 		seen[want]++
@@ -107,13 +108,13 @@ func TestWriteAny(t *testing.T) {
 func TestWriteStoredOrFixed(t *testing.T) {
 	for n := range 10 {
 		list := lits("0123456789"[:n] + "\xfa\xfb\xfc\xfd\xfe\xff")
-		raw := noise(n + 3)
+		raw := sample.Noise(n + 3)
 		if a, b := block.Cost(api.Stored, list, raw), block.Cost(api.Fixed, list, raw); a != b {
 			t.Fatalf("costs %d and %d", a, b)
 		}
 		wantWrite(t, list, raw, api.Stored)
-		wantWrite(t, list, noise(n+2), api.Stored)
-		wantWrite(t, list, noise(n+4), api.Fixed)
+		wantWrite(t, list, sample.Noise(n+2), api.Stored)
+		wantWrite(t, list, sample.Noise(n+4), api.Fixed)
 	}
 }
 
@@ -132,7 +133,7 @@ func TestWriteFixedOrDynamic(t *testing.T) {
 			if dynamic == fixed {
 				same++
 			}
-			wantWrite(t, list, noise(1000), want)
+			wantWrite(t, list, sample.Noise(1000), want)
 		}
 	}
 	if same == 0 {
@@ -151,9 +152,9 @@ func TestWriteStoredOrDynamic(t *testing.T) {
 			continue
 		}
 		same++
-		wantWrite(t, list, noise(dynamic/8-6), api.Stored)
-		wantWrite(t, list, noise(dynamic/8-5), api.Stored)
-		wantWrite(t, list, noise(dynamic/8-4), api.Dynamic)
+		wantWrite(t, list, sample.Noise(dynamic/8-6), api.Stored)
+		wantWrite(t, list, sample.Noise(dynamic/8-5), api.Stored)
+		wantWrite(t, list, sample.Noise(dynamic/8-4), api.Dynamic)
 	}
 	if same == 0 {
 		t.Error("the costs are never the same")
@@ -163,7 +164,7 @@ func TestWriteStoredOrDynamic(t *testing.T) {
 // P10.2: Write chooses by the cost at a byte boundary, wherever it writes: behind
 // 5 bits this stored block would have 59 bits only.
 func TestWriteWithinByte(t *testing.T) {
-	list, raw := lits("abc\xfd\xfe\xff"), noise(3)
+	list, raw := lits("abc\xfd\xfe\xff"), sample.Noise(3)
 	if a, b := block.Cost(api.Stored, list, raw), block.Cost(api.Fixed, list, raw); a != 64 || b != 61 {
 		t.Fatalf("costs %d and %d", a, b)
 	}
@@ -173,7 +174,7 @@ func TestWriteWithinByte(t *testing.T) {
 // P10.2: Write chooses a stored block if there can be no other one, another one
 // if raw has too many bytes, and none if neither is possible.
 func TestWriteWhatIsPossible(t *testing.T) {
-	long := noise(mostRaw + 1)
+	long := sample.Noise(mostRaw + 1)
 	many := make([]api.Token, mostTokens+1)
 	wantWrite(t, lits("abc"), long, api.Fixed)
 	wantWrite(t, nil, long, api.Fixed)
@@ -184,7 +185,7 @@ func TestWriteWhatIsPossible(t *testing.T) {
 	wantWrite(t, many, long[1:], api.Stored)
 	wantWrite(t, many, long, -1)
 	wantWrite(t, many[1:], long, api.Dynamic)
-	wantWrite(t, lits(slices.Repeat(noise(mostRaw), 16)), long[1:], api.Stored)
+	wantWrite(t, lits(slices.Repeat(sample.Noise(mostRaw), 16)), long[1:], api.Stored)
 	for _, x := range unsound() {
 		for _, list := range [][]api.Token{{x}, {lit('a'), x}, {x, lit('a')}} {
 			wantWrite(t, list, nil, api.Stored)

@@ -7,6 +7,7 @@ import (
 
 	"concertina/api"
 	"concertina/code"
+	"concertina/internal/sample"
 	"concertina/limit"
 )
 
@@ -63,7 +64,7 @@ func TestDynamicOfNothing(t *testing.T) {
 
 // P10.1: without matches, code 0 has the only length of the second code.
 func TestDynamicWithoutMatches(t *testing.T) {
-	for _, text := range []string{"a", "ab", "aaaaaaa", "concertina", "\x00", "\xff\xff\x00", string(noise(1000))} {
+	for _, text := range []string{"a", "ab", "aaaaaaa", "concertina", "\x00", "\xff\xff\x00", string(sample.Noise(1000))} {
 		if got := wantDynamic(t, lits(text)); !slices.Equal(got.dist, []int{1}) || len(got.lit) != 257 {
 			t.Errorf("%d bytes: %d lengths and %v", len(text), len(got.lit), got.dist)
 		}

@@ -6,6 +6,7 @@ import (
 
 	"concertina/api"
 	"concertina/block"
+	"concertina/internal/sample"
 )
 
 // wantBytes compares the bytes of a block that begins at a byte boundary.
@@ -77,7 +78,7 @@ func TestFixedLiterals(t *testing.T) {
 			t.Errorf("literal %d: %d bits", b, got.end)
 		}
 	}
-	wantBlocks(t, api.Fixed, lits(noise(3000)), nil)
+	wantBlocks(t, api.Fixed, lits(sample.Noise(3000)), nil)
 }
 
 // P10.1: every length and every distance.

@@ -37,13 +37,6 @@ func lits[T string | []byte](text T) []api.Token {
 	return list
 }
 
-// noise returns n bytes, the same ones each time.
-func noise(n int) []byte {
-	b := make([]byte, n)
-	rand.New(rand.NewSource(1)).Read(b)
-	return b
-}
-
 // someTokens returns sound tokens of many different codes.
 func someTokens(random *rand.Rand, n int) []api.Token {
 	var list []api.Token

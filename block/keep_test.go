@@ -9,6 +9,7 @@ import (
 	"concertina/api"
 	"concertina/bits"
 	"concertina/block"
+	"concertina/internal/sample"
 )
 
 // R1: without a writer the results are those with one.
@@ -45,7 +46,7 @@ func TestZeroWriter(t *testing.T) {
 // R4: tokens and bytes stay as they are, with their spare capacity.
 func TestArgumentsStay(t *testing.T) {
 	list := append(lits("abcabc"), match(258, 3), match(2, 2), lit('x'))
-	raw := noise(100)
+	raw := sample.Noise(100)
 	listBefore, rawBefore := slices.Clone(list), bytes.Clone(raw)
 	for kind := -1; kind <= 3; kind++ {
 		for _, n := range []int{0, 7, len(list)} {
@@ -104,11 +105,11 @@ func TestBlocksAreIndependent(t *testing.T) {
 	for range 50 {
 		list := someTokens(random, random.Intn(300))
 		kind := random.Intn(3)
-		want, _ := written(t, 0, kind, list, noise(len(list)), true)
+		want, _ := written(t, 0, kind, list, sample.Noise(len(list)), true)
 		calls = append(calls, call{kind, list, want})
 	}
 	for _, c := range slices.Backward(calls) {
-		if got, _ := written(t, 0, c.kind, c.list, noise(len(c.list)), true); !bytes.Equal(got, c.want) {
+		if got, _ := written(t, 0, c.kind, c.list, sample.Noise(len(c.list)), true); !bytes.Equal(got, c.want) {
 			t.Errorf("kind %d: %x instead of %x", c.kind, got, c.want)
 		}
 	}

@@ -12,6 +12,7 @@ import (
 	"concertina/api"
 	"concertina/bits"
 	"concertina/block"
+	"concertina/internal/sample"
 	"concertina/token"
 )
 
@@ -39,7 +40,7 @@ func TestStoredBlocks(t *testing.T) {
 	wantBytes(t, api.Stored, []api.Token{match(2, 0)}, []byte{0}, false, 48, 0x00, 0x01, 0x00, 0xfe, 0xff, 0)
 	wantBytes(t, api.Stored, make([]api.Token, mostTokens+1), []byte{7}, true, 48, 0x01, 0x01, 0x00, 0xfe, 0xff, 7)
 	for _, n := range []int{1, 2, 255, 256, 257, 1000, 32768, mostRaw - 1, mostRaw} {
-		wantBlocks(t, api.Stored, nil, noise(n))
+		wantBlocks(t, api.Stored, nil, sample.Noise(n))
 	}
 }
 
@@ -63,9 +64,9 @@ func TestBlocksWithinByte(t *testing.T) {
 // P10.1: as many bytes as a stored block can have, and more; other blocks do not
 // ask for them.
 func TestTooManyBytes(t *testing.T) {
-	wantBlock(t, 0, api.Stored, nil, noise(mostRaw), false)
+	wantBlock(t, 0, api.Stored, nil, sample.Noise(mostRaw), false)
 	for _, n := range []int{mostRaw + 1, mostRaw + 2, 2 * mostRaw, 1 << 17, 1 << 20} {
-		raw := noise(n)
+		raw := sample.Noise(n)
 		wantNone(t, api.Stored, nil, raw)
 		wantNone(t, api.Stored, lits("a"), raw)
 		wantBlock(t, 0, api.Fixed, lits("a"), nil, false)
@@ -84,7 +85,7 @@ func TestUnknownKinds(t *testing.T) {
 	for _, kind := range noKinds {
 		wantNone(t, kind, nil, nil)
 		wantNone(t, kind, lits("abc"), []byte("abc"))
-		wantNone(t, kind, []api.Token{match(2, 1)}, noise(mostRaw+1))
+		wantNone(t, kind, []api.Token{match(2, 1)}, sample.Noise(mostRaw+1))
 	}
 }
 

@@ -2,12 +2,11 @@ package match_test
 
 import (
 	"bytes"
-	"math/rand"
 	"slices"
-	"strings"
 	"testing"
 
 	"concertina/api"
+	"concertina/internal/sample"
 	"concertina/match"
 	"concertina/token"
 )
@@ -18,42 +17,10 @@ const mostWaiting = 261
 // levels is the number of levels, from 0 on.
 const levels = 10
 
-// noise returns n bytes, the same ones each time.
-func noise(n int) []byte {
-	b := make([]byte, n)
-	rand.New(rand.NewSource(1)).Read(b)
-	return b
-}
-
-// few returns n bytes, of kinds different ones, the same ones each time.
-func few(n, kinds int) []byte {
-	b := noise(n)
-	for i := range b {
-		b[i] %= byte(kinds)
-	}
-	return b
-}
-
-// story returns n bytes of words in a random order, with a random byte here and
-// there, the same ones each time.
-func story(n int) []byte {
-	random := rand.New(rand.NewSource(2))
-	words := strings.Fields("the gateway forwards each request to its upstream and each response back to the client")
-	var b []byte
-	for len(b) < n {
-		b = append(b, words[random.Intn(len(words))]...)
-		b = append(b, ' ')
-		if random.Intn(20) == 0 {
-			b = append(b, byte(random.Intn(256)))
-		}
-	}
-	return b[:n]
-}
-
 // inputs returns inputs of all sorts by their names; the long ones have more
 // bytes than are kept.
 func inputs() map[string][]byte {
-	block := noise(40000)
+	block := sample.Noise(40000)
 	return map[string][]byte{
 		"nothing":        nil,
 		"one":            []byte("a"),
@@ -62,10 +29,10 @@ func inputs() map[string][]byte {
 		"example":        []byte("abcabcabc"),
 		"repeated":       bytes.Repeat([]byte("concertina, "), 700),
 		"every byte":     bytes.Repeat(slices.Collect(bytesUpTo(256)), 3),
-		"noise":          noise(70000),
-		"two kinds":      few(20000, 2),
-		"three kinds":    few(20000, 3),
-		"story":          story(150000),
+		"noise":          sample.Noise(70000),
+		"two kinds":      sample.Few(20000, 2),
+		"three kinds":    sample.Few(20000, 3),
+		"story":          sample.Story(150000),
 		"the same":       make([]byte, 140000),
 		"period 255":     bytes.Repeat(block[:255], 400),
 		"period 4096":    bytes.Repeat(block[:4096], 30),
@@ -73,7 +40,7 @@ func inputs() map[string][]byte {
 		"period 32768":   bytes.Repeat(block[:32768], 3),
 		"period 32769":   bytes.Repeat(block[:32769], 3),
 		"period 40000":   bytes.Repeat(block, 3),
-		"noise and runs": slices.Concat(noise(5000), make([]byte, 70000), noise(5000), bytes.Repeat([]byte("ab"), 300)),
+		"noise and runs": slices.Concat(sample.Noise(5000), make([]byte, 70000), sample.Noise(5000), bytes.Repeat([]byte("ab"), 300)),
 	}
 }
 

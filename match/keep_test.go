@@ -8,13 +8,14 @@ import (
 	"testing"
 
 	"concertina/api"
+	"concertina/internal/sample"
 	"concertina/match"
 )
 
 // P9.2: a nil finder has nothing.
 func TestNilFinder(t *testing.T) {
 	var f *match.Finder
-	for _, b := range [][]byte{nil, []byte("abcabcabc"), noise(100000)} {
+	for _, b := range [][]byte{nil, []byte("abcabcabc"), sample.Noise(100000)} {
 		f.Write(b)
 		wantWaiting(t, f, 0)
 		for _, end := range []bool{false, true} {
@@ -39,7 +40,7 @@ func TestZeroFinder(t *testing.T) {
 // R4: what is written isn't changed, with its spare capacity, and may be changed
 // by the caller afterwards.
 func TestWriteKeepsNoArgument(t *testing.T) {
-	b := story(100000)
+	b := sample.Story(100000)
 	for level := range levels {
 		want := match.Tokens(b, level)
 		f := match.New(level)
@@ -63,10 +64,10 @@ func TestWriteKeepsNoArgument(t *testing.T) {
 // R4: the argument of the function Tokens stays as it is as well.
 func TestTokensKeepsItsArgument(t *testing.T) {
 	for level := range levels {
-		array := append(story(1000), "spare"...)
+		array := append(sample.Story(1000), "spare"...)
 		list := match.Tokens(array[:1000], level)
 		want := slices.Clone(list)
-		if !bytes.Equal(array[:1000], story(1000)) || string(array[1000:]) != "spare" {
+		if !bytes.Equal(array[:1000], sample.Story(1000)) || string(array[1000:]) != "spare" {
 			t.Errorf("level %d: the argument was changed", level)
 		}
 		clear(array)
@@ -77,7 +78,7 @@ func TestTokensKeepsItsArgument(t *testing.T) {
 // R4: no result is changed by a later call, and no later call is changed by
 // what the caller does with a result, also with its spare capacity.
 func TestResultsAreNewMemory(t *testing.T) {
-	b := story(150000)
+	b := sample.Story(150000)
 	for level := range levels {
 		want := match.Tokens(b, level)
 		f := match.New(level)
@@ -114,7 +115,7 @@ func spoil(list []api.Token) {
 // R5: finders know nothing of each other, and the same calls have the same
 // results.
 func TestFindersAreApart(t *testing.T) {
-	one, other := story(90000), few(90000, 3)
+	one, other := sample.Story(90000), sample.Few(90000, 3)
 	for level := range levels {
 		wantOne, wantOther := match.Tokens(one, level), match.Tokens(other, level)
 		f, g := match.New(level), match.New(level)
@@ -143,7 +144,7 @@ func memory() int {
 // they came at once or in parts, and whether they are repeated or not.
 func TestOldBytesAreNotKept(t *testing.T) {
 	const total, most = 1 << 22, 3 << 20
-	b := noise(total)
+	b := sample.Noise(total)
 	for _, level := range []int{0, 9} {
 		once, parts, ends := match.New(level), match.New(level), match.New(level)
 		before := memory()

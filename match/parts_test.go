@@ -7,6 +7,7 @@ import (
 	"testing"
 
 	"concertina/api"
+	"concertina/internal/sample"
 	"concertina/match"
 )
 
@@ -19,7 +20,7 @@ func TestWaiting(t *testing.T) {
 		wantWaiting(t, f, 3)
 		f.Write(nil)
 		wantWaiting(t, f, 3)
-		f.Write(noise(1000))
+		f.Write(sample.Noise(1000))
 		wantWaiting(t, f, 1003)
 		wantWaiting(t, f, 1003)
 		list := f.Tokens(false)
@@ -42,7 +43,7 @@ func TestWaiting(t *testing.T) {
 // what it returns are the bytes ahead of those. Then Tokens(true) leaves none.
 func TestTokensAheadOfTheEnd(t *testing.T) {
 	for level := range levels {
-		for _, b := range [][]byte{noise(900), make([]byte, 900), few(900, 2), story(900)} {
+		for _, b := range [][]byte{sample.Noise(900), make([]byte, 900), sample.Few(900, 2), sample.Story(900)} {
 			for n := range len(b) + 1 {
 				f := match.New(level)
 				f.Write(b[:n])
@@ -83,7 +84,7 @@ func TestTokensAheadOfTheEndOfLongInputs(t *testing.T) {
 // P9.1: after Tokens(true) the input goes on, and its matches reach back to
 // what was there before.
 func TestWriteAfterTheEnd(t *testing.T) {
-	b := noise(600)
+	b := sample.Noise(600)
 	for level := 1; level < levels; level++ {
 		f := match.New(level)
 		var list []api.Token
@@ -103,7 +104,7 @@ func TestWriteAfterTheEnd(t *testing.T) {
 // P9.1: Tokens(true) after parts of any size; so short ones have no matches, and
 // there are more of them than bytes are kept.
 func TestManyEnds(t *testing.T) {
-	for _, b := range [][]byte{noise(100000), make([]byte, 100000), few(100000, 2), story(100000)} {
+	for _, b := range [][]byte{sample.Noise(100000), make([]byte, 100000), sample.Few(100000, 2), sample.Story(100000)} {
 		for _, level := range []int{0, 1, 4, 6, 9} {
 			for _, part := range []int{1, 2, 3, 4, 100, 259, 40000} {
 				f := match.New(level)
@@ -122,7 +123,7 @@ func TestManyEnds(t *testing.T) {
 // P9.1: after very many parts that are too short for matches, the next part
 // still has matches at every distance, and none that is too great.
 func TestMatchAfterManyEnds(t *testing.T) {
-	b := few(140000, 200)
+	b := sample.Few(140000, 200)
 	text := []byte("\xfe\xfd\xfc\xfb\xff")
 	for _, dist := range []int{100, 10000, 32767, 32768, 32769, 60000, 139000} {
 		whole := slices.Clone(b)
@@ -151,8 +152,8 @@ func TestTokensOfAList(t *testing.T) {
 	})
 	for _, level := range []int{-5, 15} {
 		f := match.New(level)
-		f.Write(story(3000))
-		wantSame(t, fmt.Sprint("level ", level), match.Tokens(story(3000), level), f.Tokens(true))
+		f.Write(sample.Story(3000))
+		wantSame(t, fmt.Sprint("level ", level), match.Tokens(sample.Story(3000), level), f.Tokens(true))
 	}
 }
 
@@ -213,7 +214,7 @@ func TestTokensInRandomParts(t *testing.T) {
 // P9.2: the same for a short input that is divided at each place.
 func TestTokensInTwoParts(t *testing.T) {
 	for level := range levels {
-		for _, b := range [][]byte{story(700), few(700, 2), make([]byte, 700)} {
+		for _, b := range [][]byte{sample.Story(700), sample.Few(700, 2), make([]byte, 700)} {
 			want := match.Tokens(b, level)
 			for i := range len(b) + 1 {
 				f := match.New(level)

@@ -9,6 +9,7 @@ import (
 	"testing"
 
 	"concertina/api"
+	"concertina/internal/sample"
 	"concertina/match"
 )
 
@@ -100,7 +101,7 @@ func TestShortestMatch(t *testing.T) {
 
 // P9.1: a longer repetition is divided into matches of the greatest length.
 func TestLongestMatch(t *testing.T) {
-	b := noise(1000)
+	b := sample.Noise(1000)
 	for level := 1; level < levels; level++ {
 		for _, n := range []int{257, 258, 259, 260, 261, 515, 516, 517, 519, 1000} {
 			whole := slices.Concat(b, b[:n])
@@ -150,7 +151,7 @@ func TestLevelsOutside(t *testing.T) {
 
 // P9.1: from level 1 on matches are found, and may overlap themselves.
 func TestOverlappingMatches(t *testing.T) {
-	b := noise(300)
+	b := sample.Noise(300)
 	for level := 1; level < levels; level++ {
 		for _, period := range []int{1, 2, 3, 4, 100, 257, 258, 259, 300} {
 			for _, more := range []int{3, 4, period, period + 1, 2*period + 5, 1000} {

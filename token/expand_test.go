@@ -8,6 +8,7 @@ import (
 	"testing"
 
 	"concertina/api"
+	"concertina/internal/sample"
 	"concertina/token"
 	"concertina/window"
 )
@@ -32,7 +33,7 @@ func TestExpandLiterals(t *testing.T) {
 		all[i] = byte(255 - i)
 	}
 	wantExpand(t, lits(all), all)
-	long := noise(100000)
+	long := sample.Noise(100000)
 	wantExpand(t, lits(long), long)
 }
 
@@ -59,7 +60,7 @@ func TestExpandMatches(t *testing.T) {
 
 // P8.2: matches of every length, near and far.
 func TestExpandMatchesOfEveryLength(t *testing.T) {
-	b := noise(300)
+	b := sample.Noise(300)
 	for n := 3; n <= 258; n++ {
 		for _, dist := range []int{1, 2, 3, 4, n - 1, n, n + 1, 299, 300} {
 			want := slices.Concat(b, bytes.Repeat(b[300-dist:], n/dist+1)[:n])
@@ -76,7 +77,7 @@ func TestExpandAtTheFirstByte(t *testing.T) {
 		wantError(t, []api.Token{match(n, 1), lit('a')}, api.ErrCode)
 	}
 	for have := 1; have <= 600; have++ {
-		b := noise(have)
+		b := sample.Noise(have)
 		want := slices.Concat(b, bytes.Repeat(b, 3/have+1)[:3])
 		wantExpand(t, join(lits(b), []api.Token{match(3, have)}), want)
 		wantError(t, join(lits(b), []api.Token{match(3, have+1)}), api.ErrCode)
@@ -92,17 +93,17 @@ func TestExpandAtTheFirstByte(t *testing.T) {
 // takes the last ones; a greater distance is none, however many bytes there are.
 func TestExpandAtTheGreatestDistance(t *testing.T) {
 	for _, have := range []int{32766, 32767} {
-		wantError(t, join(lits(noise(have)), []api.Token{match(3, 32768)}), api.ErrCode)
+		wantError(t, join(lits(sample.Noise(have)), []api.Token{match(3, 32768)}), api.ErrCode)
 	}
 	for _, have := range []int{32768, 32769, 33000, 70000} {
-		b := noise(have)
+		b := sample.Noise(have)
 		for _, n := range []int{3, 4, 257, 258} {
 			list := join(lits(b), []api.Token{match(n, 32768)})
 			wantExpand(t, list, slices.Concat(b, b[have-32768:have-32768+n]))
 		}
 		wantError(t, join(lits(b), []api.Token{match(3, 32769)}), api.ErrArg)
 	}
-	wantError(t, join(lits(noise(70000)), []api.Token{match(3, 70000)}), api.ErrArg)
+	wantError(t, join(lits(sample.Noise(70000)), []api.Token{match(3, 70000)}), api.ErrArg)
 }
 
 // unsound are tokens that are neither literals nor matches.
@@ -259,8 +260,8 @@ func TestExpandAsTold(t *testing.T) {
 func TestExpandAsWindow(t *testing.T) {
 	random := rand.New(rand.NewSource(3))
 	w := window.New()
-	list := lits(noise(40000))
-	want := noise(40000)
+	list := lits(sample.Noise(40000))
+	want := sample.Noise(40000)
 	w.Add(want)
 	for range 3000 {
 		n, dist := 3+random.Intn(256), 1+random.Intn(32768)

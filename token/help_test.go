@@ -3,7 +3,6 @@ package token_test
 import (
 	"bytes"
 	"math"
-	"math/rand"
 	"testing"
 
 	"concertina/api"
@@ -42,13 +41,6 @@ func join(lists ...[]api.Token) []api.Token {
 		all = append(all, list...)
 	}
 	return all
-}
-
-// noise returns n bytes, the same ones each time.
-func noise(n int) []byte {
-	b := make([]byte, n)
-	rand.New(rand.NewSource(1)).Read(b)
-	return b
 }
 
 // short returns a text for a message, of many bytes only the first ones.

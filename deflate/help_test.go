@@ -1,0 +1,123 @@
+package deflate_test
+
+import (
+	"bytes"
+	"compress/flate"
+	"io"
+	"slices"
+	"testing"
+
+	"concertina/api"
+	"concertina/deflate"
+	"concertina/internal/sample"
+)
+
+const (
+	blockSize = 16384
+	mostBlock = 16384 + 258 // the most data of a block
+	levels    = 10          // the number of levels, from 0 on
+)
+
+// inputs returns data of all sorts by their names.
+func inputs() map[string][]byte {
+	some := sample.Noise(40000)
+	return map[string][]byte{
+		"nothing":         nil,
+		"one":             []byte("a"),
+		"two":             []byte("ab"),
+		"three":           []byte("aaa"),
+		"example":         []byte("abcabcabc"),
+		"repeated":        bytes.Repeat([]byte("concertina, "), 700),
+		"noise":           sample.Noise(70000),
+		"two kinds":       sample.Few(20000, 2),
+		"200 kinds":       sample.Few(60000, 200),
+		"story":           sample.Story(150000),
+		"the same":        make([]byte, 140000),
+		"period 255":      bytes.Repeat(some[:255], 400),
+		"period 16384":    bytes.Repeat(some[:16384], 6),
+		"period 32768":    bytes.Repeat(some[:32768], 3),
+		"period 32769":    bytes.Repeat(some[:32769], 3),
+		"noise and runs":  slices.Concat(sample.Noise(5000), make([]byte, 40000), sample.Noise(5000), bytes.Repeat([]byte("ab"), 300)),
+		"noise and story": slices.Concat(sample.Noise(16383), sample.Story(16385), sample.Noise(16384), sample.Story(40000)),
+	}
+}
+
+// eachInput calls f with each input and each level, with several inputs at once.
+func eachInput(t *testing.T, f func(t *testing.T, b []byte, level int)) {
+	for name, b := range inputs() {
+		t.Run(name, func(t *testing.T) {
+			t.Parallel()
+			for level := range levels {
+				f(t, b, level)
+			}
+		})
+	}
+}
+
+// short returns a text for a message, of many bytes only the first ones.
+func short(b []byte) string {
+	if len(b) > 40 {
+		return string(b[:40]) + ".."
+	}
+	return string(b)
+}
+
+// wantBytes compares bytes.
+func wantBytes(t *testing.T, what string, got, want []byte) {
+	t.Helper()
+	if !bytes.Equal(got, want) {
+		t.Errorf("%s: %d bytes %q instead of %d bytes %q", what, len(got), short(got), len(want), short(want))
+	}
+}
+
+// wantErr compares an error.
+func wantErr(t *testing.T, what string, got, want api.Errno) {
+	t.Helper()
+	if got != want {
+		t.Errorf("%s: error %d instead of %d", what, got, want)
+	}
+}
+
+// wantData reads a stream, with the test's own decoder and with the library's,
+// and compares its data.
+func wantData(t *testing.T, what string, b, want []byte) *stream {
+	t.Helper()
+	s := read(t, b)
+	wantBytes(t, what, s.data, want)
+	rest := bytes.NewReader(b)
+	got, err := io.ReadAll(flate.NewReader(rest))
+	if err != nil || rest.Len() > 0 {
+		t.Errorf("%s: %d bytes remain, %v", what, rest.Len(), err)
+	}
+	wantBytes(t, what, got, want)
+	return s
+}
+
+// wantFlushed reads what was taken of a stream after a Flush, and compares the
+// data.
+func wantFlushed(t *testing.T, what string, b, want []byte) *stream {
+	t.Helper()
+	s := readFlushed(t, b)
+	wantBytes(t, what, s.data, want)
+	return s
+}
+
+// write appends bytes to the data of an encoder.
+func write(t *testing.T, e *deflate.Encoder, b []byte) {
+	t.Helper()
+	wantErr(t, "Write", e.Write(b), api.OK)
+}
+
+// flushed flushes an encoder and returns what it has then.
+func flushed(t *testing.T, e *deflate.Encoder) []byte {
+	t.Helper()
+	wantErr(t, "Flush", e.Flush(), api.OK)
+	return e.Take()
+}
+
+// closed closes an encoder and returns what it has then.
+func closed(t *testing.T, e *deflate.Encoder) []byte {
+	t.Helper()
+	wantErr(t, "Close", e.Close(), api.OK)
+	return e.Take()
+}
