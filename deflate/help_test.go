@@ -4,7 +4,6 @@ import (
 	"bytes"
 	"compress/flate"
 	"io"
-	"slices"
 	"testing"
 
 	"concertina/api"
@@ -18,33 +17,9 @@ const (
 	levels    = 10          // the number of levels, from 0 on
 )
 
-// inputs returns data of all sorts by their names.
-func inputs() map[string][]byte {
-	some := sample.Noise(40000)
-	return map[string][]byte{
-		"nothing":         nil,
-		"one":             []byte("a"),
-		"two":             []byte("ab"),
-		"three":           []byte("aaa"),
-		"example":         []byte("abcabcabc"),
-		"repeated":        bytes.Repeat([]byte("concertina, "), 700),
-		"noise":           sample.Noise(70000),
-		"two kinds":       sample.Few(20000, 2),
-		"200 kinds":       sample.Few(60000, 200),
-		"story":           sample.Story(150000),
-		"the same":        make([]byte, 140000),
-		"period 255":      bytes.Repeat(some[:255], 400),
-		"period 16384":    bytes.Repeat(some[:16384], 6),
-		"period 32768":    bytes.Repeat(some[:32768], 3),
-		"period 32769":    bytes.Repeat(some[:32769], 3),
-		"noise and runs":  slices.Concat(sample.Noise(5000), make([]byte, 40000), sample.Noise(5000), bytes.Repeat([]byte("ab"), 300)),
-		"noise and story": slices.Concat(sample.Noise(16383), sample.Story(16385), sample.Noise(16384), sample.Story(40000)),
-	}
-}
-
 // eachInput calls f with each input and each level, with several inputs at once.
 func eachInput(t *testing.T, f func(t *testing.T, b []byte, level int)) {
-	for name, b := range inputs() {
+	for name, b := range sample.Inputs() {
 		t.Run(name, func(t *testing.T) {
 			t.Parallel()
 			for level := range levels {

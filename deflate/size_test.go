@@ -15,7 +15,7 @@ import (
 func TestLevel0(t *testing.T) {
 	t.Parallel()
 	for _, level := range []int{0, -1} {
-		for _, b := range inputs() {
+		for _, b := range sample.Inputs() {
 			what := fmt.Sprintf("level %d, %d bytes", level, len(b))
 			wantStored(t, what, wantData(t, what, deflate.Whole(b, level), b))
 			e := deflate.New(level)

@@ -75,7 +75,7 @@ func wantBlocks(t *testing.T, what string, s *stream) {
 func TestSizesOfBlocks(t *testing.T) {
 	t.Parallel()
 	crossed := 0
-	for _, b := range inputs() {
+	for _, b := range sample.Inputs() {
 		for level := range levels {
 			what := fmt.Sprintf("level %d, %d bytes", level, len(b))
 			s := read(t, deflate.Whole(b, level))

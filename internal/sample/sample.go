@@ -1,7 +1,12 @@
-// Package sample makes data for the tests of the layers: the same ones each time.
+// Package sample makes data for the tests of the layers, the same ones each time,
+// and has tables of the format for them.
 package sample
 
-import "strings"
+import (
+	"bytes"
+	"slices"
+	"strings"
+)
 
 // numbers are numbers that look random. The zero value begins with the first one.
 type numbers uint64
@@ -41,4 +46,28 @@ func Story(n int) []byte {
 		}
 	}
 	return b[:n]
+}
+
+// Inputs returns data of all sorts by their names.
+func Inputs() map[string][]byte {
+	some := Noise(40000)
+	return map[string][]byte{
+		"nothing":         nil,
+		"one":             []byte("a"),
+		"two":             []byte("ab"),
+		"three":           []byte("aaa"),
+		"example":         []byte("abcabcabc"),
+		"repeated":        bytes.Repeat([]byte("concertina, "), 700),
+		"noise":           Noise(70000),
+		"two kinds":       Few(20000, 2),
+		"200 kinds":       Few(60000, 200),
+		"story":           Story(150000),
+		"the same":        make([]byte, 140000),
+		"period 255":      bytes.Repeat(some[:255], 400),
+		"period 16384":    bytes.Repeat(some[:16384], 6),
+		"period 32768":    bytes.Repeat(some[:32768], 3),
+		"period 32769":    bytes.Repeat(some[:32769], 3),
+		"noise and runs":  slices.Concat(Noise(5000), make([]byte, 40000), Noise(5000), bytes.Repeat([]byte("ab"), 300)),
+		"noise and story": slices.Concat(Noise(16383), Story(16385), Noise(16384), Story(40000)),
+	}
 }

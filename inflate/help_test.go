@@ -1,0 +1,174 @@
+package inflate_test
+
+import (
+	"bytes"
+	"fmt"
+	"testing"
+
+	"concertina/api"
+	"concertina/inflate"
+)
+
+// far is a limit that no output of the tests reaches.
+const far = 1 << 30
+
+// everything is more than any output of the tests has.
+const everything = 1 << 40
+
+// short returns a text for a message, of many bytes only the first ones.
+func short(b []byte) string {
+	if len(b) > 40 {
+		return string(b[:40]) + ".."
+	}
+	return string(b)
+}
+
+// wantBytes compares bytes.
+func wantBytes(t *testing.T, what string, got, want []byte) {
+	t.Helper()
+	if !bytes.Equal(got, want) {
+		t.Errorf("%s: %d bytes %q instead of %d bytes %q", what, len(got), short(got), len(want), short(want))
+	}
+}
+
+// wantErr compares an error.
+func wantErr(t *testing.T, what string, got, want api.Errno) {
+	t.Helper()
+	if got != want {
+		t.Errorf("%s: error %d instead of %d", what, got, want)
+	}
+}
+
+// wantTake takes n bytes, and compares them and the error.
+func wantTake(t *testing.T, d *inflate.Decoder, n int, want string, err api.Errno) {
+	t.Helper()
+	b, got := d.Take(n)
+	wantBytes(t, fmt.Sprintf("Take(%d)", n), b, []byte(want))
+	wantErr(t, fmt.Sprintf("Take(%d)", n), got, err)
+}
+
+// wantSame compares what streams come to.
+func wantSame(t *testing.T, what string, got, want result) {
+	t.Helper()
+	wantBytes(t, what, got.out, want.out)
+	wantErr(t, what, got.err, want.err)
+	wantBytes(t, what+", rest", got.rest, want.rest)
+}
+
+// whole returns what a stream comes to by Whole.
+func whole(b []byte, most int) result {
+	out, rest, err := inflate.Whole(b, most)
+	if err == api.OK {
+		err = api.ErrDone
+	}
+	return result{out, err, rest}
+}
+
+// takeAll takes what a decoder has, n bytes at once, and returns it with the
+// error behind it.
+func takeAll(t *testing.T, d *inflate.Decoder, n int) ([]byte, api.Errno) {
+	t.Helper()
+	var all []byte
+	for {
+		b, err := d.Take(n)
+		all = append(all, b...)
+		if len(b) > n || (err == api.OK) != (len(b) == n) || len(b) > 0 && err != api.OK && err != api.ErrEnd {
+			t.Fatalf("Take(%d) after %d bytes: %d bytes, error %d", n, len(all)-len(b), len(b), err)
+		}
+		if len(b) == 0 {
+			return all, err
+		}
+	}
+}
+
+// inParts returns what a stream comes to that is fed in parts of some sizes, of
+// which the next ones are asked for again and again, while its output is taken n
+// bytes at once.
+func inParts(t *testing.T, b []byte, most int, next func() int, n int) result {
+	t.Helper()
+	d := inflate.New(most)
+	var x result
+	for {
+		size := min(next(), len(b))
+		d.Feed(b[:size])
+		b = b[size:]
+		out, err := takeAll(t, d, n)
+		x.out, x.err = append(x.out, out...), err
+		if len(b) == 0 {
+			break
+		}
+	}
+	wantTake(t, d, 0, "", api.OK)
+	for _, n := range []int{1, everything} {
+		wantTake(t, d, n, "", x.err)
+	}
+	x.rest = d.Rest()
+	wantBytes(t, "second rest", d.Rest(), nil)
+	wantTake(t, d, n, "", x.err)
+	return x
+}
+
+// always returns a function that returns the same number again and again.
+func always(n int) func() int {
+	return func() int { return n }
+}
+
+// wantResult compares what a stream comes to, as a whole and in parts.
+func wantResult(t *testing.T, what string, b []byte, most int, want result) {
+	t.Helper()
+	wantSame(t, what+", read", read(b, max(most, 0)), want)
+	wantSame(t, what+", whole", whole(b, most), want)
+	for _, x := range []struct{ size, n int }{{1, 1}, {1, everything}, {7, 3}, {1000, 1}, {len(b), 1000}, {len(b), everything}} {
+		got := inParts(t, b, most, always(max(x.size, 1)), x.n)
+		wantSame(t, fmt.Sprintf("%s, parts of %d and %d bytes", what, x.size, x.n), got, want)
+	}
+}
+
+// behind are the bytes that stand behind streams in these tests.
+const behind = "\x05\xffbehind"
+
+// wantData compares the output of a stream, which is complete: alone, and with
+// bytes behind it. A stream that is cut off has the beginning of that output.
+func wantData(t *testing.T, what string, b, want []byte) {
+	t.Helper()
+	wantResult(t, what, b, far, result{want, api.ErrDone, nil})
+	more := append(bytes.Clone(b), behind...)
+	wantResult(t, what+", and more", more, far, result{want, api.ErrDone, []byte(behind)})
+	for i := range prefixes(b) {
+		x := whole(b[:i], far)
+		wantErr(t, fmt.Sprintf("%s, %d of %d bytes", what, i, len(b)), x.err, api.ErrEnd)
+		if !bytes.HasPrefix(want, x.out) || x.rest != nil {
+			t.Errorf("%s, %d of %d bytes: %d bytes %q, %d bytes rest", what, i, len(b), len(x.out), short(x.out), len(x.rest))
+		}
+	}
+}
+
+// prefixes returns the lengths of proper beginnings of b: of all if they are few.
+func prefixes(b []byte) func(func(int) bool) {
+	return func(yield func(int) bool) {
+		for i := 0; i < len(b); i += max(len(b)/300, 1) {
+			if !yield(i) {
+				return
+			}
+		}
+		if len(b) > 0 {
+			yield(len(b) - 1)
+		}
+	}
+}
+
+// wantFailure compares the output of a stream before an error, and the error,
+// which is there with the last bit of the stream and not before, and stays
+// whatever follows.
+func wantFailure(t *testing.T, what string, b []byte, most int, want string, err api.Errno) {
+	t.Helper()
+	x := result{[]byte(want), err, nil}
+	wantResult(t, what, b, most, x)
+	more := append(bytes.Clone(b), behind...)
+	wantResult(t, what+", and more", more, most, x)
+	for i := range prefixes(b) {
+		x := whole(b[:i], most)
+		wantErr(t, fmt.Sprintf("%s, %d of %d bytes", what, i, len(b)), x.err, api.ErrEnd)
+		wantSame(t, fmt.Sprintf("%s, %d of %d bytes", what, i, len(b)), x, read(b[:i], max(most, 0)))
+	}
+}
