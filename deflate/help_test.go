@@ -8,6 +8,7 @@ import (
 
 	"concertina/api"
 	"concertina/deflate"
+	"concertina/internal/expect"
 	"concertina/internal/sample"
 )
 
@@ -29,29 +30,11 @@ func eachInput(t *testing.T, f func(t *testing.T, b []byte, level int)) {
 	}
 }
 
-// short returns a text for a message, of many bytes only the first ones.
-func short(b []byte) string {
-	if len(b) > 40 {
-		return string(b[:40]) + ".."
-	}
-	return string(b)
-}
-
-// wantBytes compares bytes.
-func wantBytes(t *testing.T, what string, got, want []byte) {
-	t.Helper()
-	if !bytes.Equal(got, want) {
-		t.Errorf("%s: %d bytes %q instead of %d bytes %q", what, len(got), short(got), len(want), short(want))
-	}
-}
-
-// wantErr compares an error.
-func wantErr(t *testing.T, what string, got, want api.Errno) {
-	t.Helper()
-	if got != want {
-		t.Errorf("%s: error %d instead of %d", what, got, want)
-	}
-}
+// wantBytes and wantErr compare bytes and an error.
+var (
+	wantBytes = expect.Bytes
+	wantErr   = expect.Err
+)
 
 // wantData reads a stream, with the test's own decoder and with the library's,
 // and compares its data.

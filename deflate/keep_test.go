@@ -78,12 +78,7 @@ func TestWholeKeepsItsArgument(t *testing.T) {
 }
 
 // spoil changes bytes, and those of the spare capacity.
-func spoil(b []byte) {
-	b = b[:cap(b)]
-	for i := range b {
-		b[i] ^= 0x55
-	}
-}
+var spoil = sample.Spoil
 
 // R4: no result is changed by a later call, and no later call is changed by what
 // the caller does with a result, also with its spare capacity.

@@ -7,6 +7,7 @@ import (
 
 	"concertina/api"
 	"concertina/inflate"
+	"concertina/internal/expect"
 )
 
 // far is a limit that no output of the tests reaches.
@@ -15,29 +16,13 @@ const far = 1 << 30
 // everything is more than any output of the tests has.
 const everything = 1 << 40
 
-// short returns a text for a message, of many bytes only the first ones.
-func short(b []byte) string {
-	if len(b) > 40 {
-		return string(b[:40]) + ".."
-	}
-	return string(b)
-}
-
-// wantBytes compares bytes.
-func wantBytes(t *testing.T, what string, got, want []byte) {
-	t.Helper()
-	if !bytes.Equal(got, want) {
-		t.Errorf("%s: %d bytes %q instead of %d bytes %q", what, len(got), short(got), len(want), short(want))
-	}
-}
-
-// wantErr compares an error.
-func wantErr(t *testing.T, what string, got, want api.Errno) {
-	t.Helper()
-	if got != want {
-		t.Errorf("%s: error %d instead of %d", what, got, want)
-	}
-}
+// wantBytes and wantErr compare bytes and an error; short shortens bytes for a
+// message.
+var (
+	wantBytes = expect.Bytes
+	wantErr   = expect.Err
+	short     = expect.Short
+)
 
 // wantTake takes n bytes, and compares them and the error.
 func wantTake(t *testing.T, d *inflate.Decoder, n int, want string, err api.Errno) {

@@ -45,12 +45,7 @@ func TestZeroDecoder(t *testing.T) {
 }
 
 // spoil changes bytes, and those of the spare capacity.
-func spoil(b []byte) {
-	b = b[:cap(b)]
-	for i := range b {
-		b[i] ^= 0x55
-	}
-}
+var spoil = sample.Spoil
 
 // R4: what is fed isn't changed, with its spare capacity, and may be changed by the
 // caller afterwards.

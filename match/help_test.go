@@ -6,6 +6,7 @@ import (
 	"testing"
 
 	"concertina/api"
+	"concertina/internal/expect"
 	"concertina/internal/sample"
 	"concertina/match"
 	"concertina/token"
@@ -67,13 +68,8 @@ func eachInput(t *testing.T, f func(t *testing.T, b []byte, level int)) {
 	}
 }
 
-// short returns a text for a message, of many bytes only the first ones.
-func short(b []byte) string {
-	if len(b) > 40 {
-		return string(b[:40]) + ".."
-	}
-	return string(b)
-}
+// short shortens bytes for a message.
+var short = expect.Short
 
 // wantBytes looks whether tokens are sound and expand to these bytes.
 func wantBytes(t *testing.T, list []api.Token, want []byte) {

@@ -6,6 +6,7 @@ import (
 	"testing"
 
 	"concertina/api"
+	"concertina/internal/expect"
 	"concertina/token"
 )
 
@@ -43,13 +44,8 @@ func join(lists ...[]api.Token) []api.Token {
 	return all
 }
 
-// short returns a text for a message, of many bytes only the first ones.
-func short(b []byte) string {
-	if len(b) > 40 {
-		return string(b[:40]) + ".."
-	}
-	return string(b)
-}
+// short shortens bytes for a message.
+var short = expect.Short
 
 // wantExpand expands tokens that should have these bytes.
 func wantExpand(t *testing.T, list []api.Token, want []byte) {

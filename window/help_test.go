@@ -6,6 +6,7 @@ import (
 	"testing"
 
 	"concertina/api"
+	"concertina/internal/expect"
 	"concertina/window"
 )
 
@@ -29,21 +30,11 @@ func windowOf(b []byte) *window.Window {
 	return w
 }
 
-// short returns a text for a message, of many bytes only the first ones.
-func short(b []byte) string {
-	if len(b) > 40 {
-		return string(b[:40]) + ".."
-	}
-	return string(b)
-}
-
-// wantBytes compares bytes; nil and empty are the same.
-func wantBytes(t *testing.T, what string, got, want []byte) {
-	t.Helper()
-	if !bytes.Equal(got, want) {
-		t.Errorf("%s: %d bytes %q instead of %d bytes %q", what, len(got), short(got), len(want), short(want))
-	}
-}
+// wantBytes compares bytes, and short shortens them for a message.
+var (
+	wantBytes = expect.Bytes
+	short     = expect.Short
+)
 
 // wantWindow compares what is in a window.
 func wantWindow(t *testing.T, w *window.Window, want []byte) {

@@ -71,3 +71,12 @@ func Inputs() map[string][]byte {
 		"noise and story": slices.Concat(Noise(16383), Story(16385), Noise(16384), Story(40000)),
 	}
 }
+
+// Spoil changes bytes, and those of the spare capacity. To do it again does not
+// undo it.
+func Spoil(b []byte) {
+	b = b[:cap(b)]
+	for i := range b {
+		b[i] += 0x55
+	}
+}

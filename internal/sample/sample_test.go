@@ -41,3 +41,17 @@ func TestKindsOfBytes(t *testing.T) {
 		t.Error("Noise does not have all kinds")
 	}
 }
+
+// Spoil changes each byte up to the capacity, each time.
+func TestSpoil(t *testing.T) {
+	b := sample.Few(100, 256)
+	before := bytes.Clone(b)
+	for range 3 {
+		sample.Spoil(b[:10:90])
+		for i := range b {
+			if changed := b[i] != before[i]; changed != (i < 90) {
+				t.Errorf("byte %d: %d, and %d before", i, b[i], before[i])
+			}
+		}
+	}
+}
