@@ -30,10 +30,13 @@ func eachInput(t *testing.T, f func(t *testing.T, b []byte, level int)) {
 	}
 }
 
-// wantBytes and wantErr compare bytes and an error.
+// What the tests of other packages need as well.
 var (
 	wantBytes = expect.Bytes
 	wantErr   = expect.Err
+	closed    = expect.Closed
+	write     = expect.Write
+	spoil     = sample.Spoil
 )
 
 // wantData reads a stream, with the test's own decoder and with the library's,
@@ -60,22 +63,9 @@ func wantFlushed(t *testing.T, what string, b, want []byte) *stream {
 	return s
 }
 
-// write appends bytes to the data of an encoder.
-func write(t *testing.T, e *deflate.Encoder, b []byte) {
-	t.Helper()
-	wantErr(t, "Write", e.Write(b), api.OK)
-}
-
 // flushed flushes an encoder and returns what it has then.
 func flushed(t *testing.T, e *deflate.Encoder) []byte {
 	t.Helper()
 	wantErr(t, "Flush", e.Flush(), api.OK)
-	return e.Take()
-}
-
-// closed closes an encoder and returns what it has then.
-func closed(t *testing.T, e *deflate.Encoder) []byte {
-	t.Helper()
-	wantErr(t, "Close", e.Close(), api.OK)
 	return e.Take()
 }

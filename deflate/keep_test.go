@@ -9,6 +9,7 @@ import (
 
 	"concertina/api"
 	"concertina/deflate"
+	"concertina/internal/expect"
 	"concertina/internal/sample"
 )
 
@@ -45,16 +46,7 @@ func TestWriteKeepsNoArgument(t *testing.T) {
 	for level := range levels {
 		for _, size := range []int{5000, 50000} {
 			e := deflate.New(level)
-			array := make([]byte, size+5)
-			for part := range slices.Chunk(b, size) {
-				n := copy(array, part)
-				copy(array[n:], "spare")
-				write(t, e, array[:n])
-				if !bytes.Equal(array[:n], part) || string(array[n:n+5]) != "spare" {
-					t.Errorf("level %d: the argument was changed", level)
-				}
-				clear(array)
-			}
+			expect.Lend(t, b, size, func(part []byte) { write(t, e, part) })
 			wantBytes(t, fmt.Sprint("level ", level), closed(t, e), deflate.Whole(b, level))
 		}
 	}
@@ -77,9 +69,6 @@ func TestWholeKeepsItsArgument(t *testing.T) {
 	}
 }
 
-// spoil changes bytes, and those of the spare capacity.
-var spoil = sample.Spoil
-
 // R4: no result is changed by a later call, and no later call is changed by what
 // the caller does with a result, also with its spare capacity.
 func TestResultsAreNewMemory(t *testing.T) {
@@ -87,18 +76,15 @@ func TestResultsAreNewMemory(t *testing.T) {
 	b := sample.Story(150000)
 	for level := range levels {
 		e := deflate.New(level)
-		var results, copies [][]byte
+		var results expect.Results
 		var all []byte
 		for part := range slices.Chunk(b, 10000) {
 			write(t, e, part)
 			out := e.Take()
-			results, copies = append(results, out), append(copies, slices.Clone(out))
+			results.Add(out)
 			all = append(all, out...)
 		}
-		for i, out := range results {
-			wantBytes(t, fmt.Sprintf("level %d, result %d", level, i), out, copies[i])
-			spoil(out)
-		}
+		results.Check(t)
 		flushed := flushed(t, e)
 		all = append(all, flushed...)
 		spoil(flushed)

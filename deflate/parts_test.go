@@ -3,27 +3,12 @@ package deflate_test
 import (
 	"fmt"
 	"math/rand"
-	"slices"
 	"testing"
 
 	"concertina/deflate"
+	"concertina/internal/expect"
 	"concertina/internal/sample"
 )
-
-// streamInParts returns the stream of data that are written in parts of n bytes,
-// with what is there taken so many times after each of them.
-func streamInParts(t *testing.T, b []byte, level, n, times int) []byte {
-	t.Helper()
-	e := deflate.New(level)
-	var all []byte
-	for part := range slices.Chunk(b, n) {
-		write(t, e, part)
-		for range times {
-			all = append(all, e.Take()...)
-		}
-	}
-	return append(all, closed(t, e)...)
-}
 
 // P11.2: the stream is the same however the data are divided among Writes, and
 // whenever Take is called.
@@ -36,7 +21,8 @@ func TestStreamInParts(t *testing.T) {
 		}
 		for i, n := range sizes {
 			what := fmt.Sprintf("level %d, parts of %d bytes", level, n)
-			wantBytes(t, what, streamInParts(t, b, level, n, i%3), want)
+			got := expect.Encode(t, deflate.New(level), b, sample.Always(n), sample.Always(i%3))
+			wantBytes(t, what, got, want)
 		}
 	})
 }
@@ -47,17 +33,10 @@ func TestStreamInRandomParts(t *testing.T) {
 		random := rand.New(rand.NewSource(int64(level)))
 		want := deflate.Whole(b, level)
 		for _, most := range []int{300, 60000} {
-			e := deflate.New(level)
-			var all []byte
-			for rest := b; len(rest) > 0; {
-				n := min(random.Intn(most), len(rest))
-				write(t, e, rest[:n])
-				rest = rest[n:]
-				if random.Intn(3) > 0 {
-					all = append(all, e.Take()...)
-				}
-			}
-			wantBytes(t, fmt.Sprintf("level %d, parts below %d bytes", level, most), append(all, closed(t, e)...), want)
+			size := func() int { return random.Intn(most) }
+			times := func() int { return random.Intn(3) }
+			got := expect.Encode(t, deflate.New(level), b, size, times)
+			wantBytes(t, fmt.Sprintf("level %d, parts below %d bytes", level, most), got, want)
 		}
 	})
 }

@@ -6,6 +6,7 @@ import (
 
 	"concertina/api"
 	"concertina/inflate"
+	"concertina/internal/steps"
 )
 
 // partSize is how many bytes a stream is fed at once. What stands behind the
@@ -73,18 +74,7 @@ func (d *Decoder) Take(n int) ([]byte, api.Errno) {
 	if d == nil {
 		return nil, api.ErrDone
 	}
-	var list []byte
-	err := api.OK
-	for err == api.OK && len(list) < n {
-		var b []byte
-		b, err = d.step(n - len(list))
-		list = append(list, b...)
-	}
-	if err != api.OK && len(list) > 0 {
-		// What is behind these bytes is told when they are gone.
-		err = api.ErrEnd
-	}
-	return list, err
+	return steps.Take(n, d.step)
 }
 
 // Headers returns the headers that were read completely.

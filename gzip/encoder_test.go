@@ -15,6 +15,7 @@ import (
 	"concertina/deflate"
 	"concertina/gzip"
 	"concertina/inflate"
+	"concertina/internal/expect"
 	"concertina/internal/sample"
 )
 
@@ -24,19 +25,6 @@ func newEncoder(t *testing.T, level int, h api.Header) *gzip.Encoder {
 	e, err := gzip.New(level, h)
 	wantErr(t, "New", err, api.OK)
 	return e
-}
-
-// write appends bytes to the data of an encoder.
-func write(t *testing.T, e *gzip.Encoder, b []byte) {
-	t.Helper()
-	wantErr(t, "Write", e.Write(b), api.OK)
-}
-
-// closed closes an encoder and returns what it has then.
-func closed(t *testing.T, e *gzip.Encoder) []byte {
-	t.Helper()
-	wantErr(t, "Close", e.Close(), api.OK)
-	return e.Take()
 }
 
 // encoded returns the member with these data.
@@ -168,18 +156,10 @@ func TestEncoderInParts(t *testing.T) {
 		for level := range levels {
 			want := encoded(t, level, x.h, data)
 			for _, most := range []int{300, 5000, 60000} {
-				e := newEncoder(t, level, x.h)
-				var all []byte
-				for rest := data; len(rest) > 0; {
-					for range random.Intn(3) {
-						all = append(all, e.Take()...)
-					}
-					n := min(random.Intn(most), len(rest))
-					write(t, e, rest[:n])
-					rest = rest[n:]
-				}
-				all = append(all, closed(t, e)...)
-				wantBytes(t, fmt.Sprintf("%s, level %d, parts below %d bytes", name, level, most), all, want)
+				size := func() int { return random.Intn(most) }
+				times := func() int { return random.Intn(3) }
+				b := expect.Encode(t, newEncoder(t, level, x.h), data, size, times)
+				wantBytes(t, fmt.Sprintf("%s, level %d, parts below %d bytes", name, level, most), b, want)
 			}
 		}
 	}
@@ -189,14 +169,8 @@ func TestEncoderInParts(t *testing.T) {
 func TestEncoderByteByByte(t *testing.T) {
 	data := sample.Story(20000)
 	for _, level := range []int{0, 1, 6} {
-		e := newEncoder(t, level, api.Header{Sum: true})
-		var all []byte
-		for i := range data {
-			write(t, e, data[i:i+1])
-			all = append(all, e.Take()...)
-		}
-		all = append(all, closed(t, e)...)
-		wantBytes(t, fmt.Sprint("level ", level), all, encoded(t, level, api.Header{Sum: true}, data))
+		b := expect.Encode(t, newEncoder(t, level, api.Header{Sum: true}), data, always(1), always(1))
+		wantBytes(t, fmt.Sprint("level ", level), b, encoded(t, level, api.Header{Sum: true}, data))
 	}
 }
 
@@ -261,15 +235,6 @@ func TestAfterClose(t *testing.T) {
 			}
 		}
 	}
-}
-
-// wantDone looks whether nothing can be written or closed any more.
-func wantDone(t *testing.T, e *gzip.Encoder) {
-	t.Helper()
-	for _, b := range [][]byte{nil, []byte("more"), sample.Noise(50000)} {
-		wantErr(t, "Write", e.Write(b), api.ErrDone)
-	}
-	wantErr(t, "Close", e.Close(), api.ErrDone)
 }
 
 // P13.3: a nil encoder is done. R1: so is one that New did not make.

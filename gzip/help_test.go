@@ -9,6 +9,7 @@ import (
 	"concertina/api"
 	"concertina/gzip"
 	"concertina/internal/expect"
+	"concertina/internal/sample"
 )
 
 // far is a limit that no output of the tests reaches.
@@ -20,12 +21,20 @@ const everything = 1 << 40
 // levels is the number of levels, from 0 on.
 const levels = 10
 
-// wantBytes and wantErr compare bytes and an error; short shortens bytes for a
-// message.
+// What the tests of other packages need as well.
 var (
 	wantBytes = expect.Bytes
 	wantErr   = expect.Err
+	wantTake  = expect.Take
+	wantStays = expect.Stays
+	wantDone  = expect.Done
+	takeAll   = expect.All
+	closed    = expect.Closed
+	write     = expect.Write
 	short     = expect.Short
+	prefixes  = sample.Prefixes
+	always    = sample.Always
+	spoil     = sample.Spoil
 )
 
 // wantHeader compares a header.
@@ -50,46 +59,6 @@ func wantHeaders(t *testing.T, what string, got, want []api.Header) {
 	}
 }
 
-// wantTake takes n bytes, and compares them and the error.
-func wantTake(t *testing.T, d *gzip.Decoder, n int, want string, err api.Errno) {
-	t.Helper()
-	b, got := d.Take(n)
-	wantBytes(t, fmt.Sprintf("Take(%d)", n), b, []byte(want))
-	wantErr(t, fmt.Sprintf("Take(%d)", n), got, err)
-}
-
-// takeAll takes what a decoder has, n bytes at once, and returns it with the
-// error behind it.
-func takeAll(t *testing.T, d *gzip.Decoder, n int) ([]byte, api.Errno) {
-	t.Helper()
-	var all []byte
-	for {
-		b, err := d.Take(n)
-		all = append(all, b...)
-		if len(b) > n || (err == api.OK) != (len(b) == n) || len(b) > 0 && err != api.OK && err != api.ErrEnd {
-			t.Fatalf("Take(%d) after %d bytes: %d bytes, error %d", n, len(all)-len(b), len(b), err)
-		}
-		if len(b) == 0 {
-			return all, err
-		}
-	}
-}
-
-// wantStays looks whether a decoder stays as it is at the end of its output.
-func wantStays(t *testing.T, d *gzip.Decoder, err api.Errno) {
-	t.Helper()
-	wantTake(t, d, 0, "", api.OK)
-	wantTake(t, d, -1, "", api.OK)
-	for _, n := range []int{1, everything} {
-		wantTake(t, d, n, "", err)
-	}
-}
-
-// always returns a function that returns the same number again and again.
-func always(n int) func() int {
-	return func() int { return n }
-}
-
 // inParts returns what a file comes to that is fed in parts of some sizes, of which
 // the next ones are asked for again and again, while its output is taken n bytes
 // at once. If soon is true, its end is marked together with its last part;
@@ -98,19 +67,11 @@ func inParts(t *testing.T, b []byte, most int, next func() int, n int, soon bool
 	t.Helper()
 	d := gzip.NewDecoder(most)
 	var x result
-	for rest := b; ; {
-		size := min(next(), len(rest))
-		d.Feed(rest[:size])
-		rest = rest[size:]
-		if len(rest) == 0 && soon {
+	x.out, x.err = expect.Decode(t, d, b, next, n, func() {
+		if soon {
 			d.End()
 		}
-		out, err := takeAll(t, d, n)
-		x.out, x.err = append(x.out, out...), err
-		if len(rest) == 0 {
-			break
-		}
-	}
+	})
 	x.headers = d.Headers()
 	if !soon {
 		wantSame(t, "before End", x, read(b, most, false))
@@ -157,22 +118,6 @@ func wantResult(t *testing.T, what string, b []byte, most int, want result) {
 	for i, x := range []struct{ size, n int }{{1, 1}, {1, everything}, {7, 3}, {1000, 1}, {len(b), 1000}, {len(b), everything}} {
 		got := inParts(t, b, most, always(max(x.size, 1)), x.n, i%2 == 0)
 		wantSame(t, fmt.Sprintf("%s, parts of %d and %d bytes", what, x.size, x.n), got, want)
-	}
-}
-
-// prefixes returns the lengths of proper beginnings of b: of all if they are few.
-func prefixes(b []byte) func(func(int) bool) {
-	return func(yield func(int) bool) {
-		for i := 0; i < len(b); i += max(len(b)/300, 1) {
-			if !yield(i) {
-				return
-			}
-		}
-		for i := max(len(b)-20, 0); i < len(b); i++ {
-			if !yield(i) {
-				return
-			}
-		}
 	}
 }
 

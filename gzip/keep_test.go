@@ -9,6 +9,7 @@ import (
 
 	"concertina/api"
 	"concertina/gzip"
+	"concertina/internal/expect"
 	"concertina/internal/sample"
 )
 
@@ -26,16 +27,7 @@ func TestEncoderKeepsNoArgument(t *testing.T) {
 			e := newEncoder(t, level, h)
 			wantBytes(t, "Extra", extra, []byte("extraspare"))
 			spoil(extra)
-			array := make([]byte, size+5)
-			for part := range slices.Chunk(data, size) {
-				n := copy(array, part)
-				copy(array[n:], "spare")
-				write(t, e, array[:n])
-				if !bytes.Equal(array[:n], part) || string(array[n:n+5]) != "spare" {
-					t.Fatal("the argument was changed")
-				}
-				spoil(array)
-			}
+			expect.Lend(t, data, size, func(part []byte) { write(t, e, part) })
 			wantBytes(t, fmt.Sprint("level ", level), closed(t, e), want)
 		}
 	}
@@ -49,11 +41,11 @@ func TestResultsOfTheEncoder(t *testing.T) {
 	for level := range levels {
 		e, again := newEncoder(t, level, x.h), newEncoder(t, level, x.h)
 		var all []byte
-		var results [][]byte
+		var results expect.Results
 		take := func() {
 			b := e.Take()
 			all = append(all, b...)
-			results = append(results, b, bytes.Clone(b))
+			results.Add(b)
 			spoil(again.Take())
 		}
 		take()
@@ -65,10 +57,7 @@ func TestResultsOfTheEncoder(t *testing.T) {
 		wantErr(t, "Close", e.Close(), api.OK)
 		wantErr(t, "Close", again.Close(), api.OK)
 		take()
-		for pair := range slices.Chunk(results, 2) {
-			wantBytes(t, "earlier result", pair[0], pair[1])
-			spoil(pair[0])
-		}
+		results.Check(t)
 		wantMember(t, fmt.Sprint("level ", level), all, x, data)
 		wantBytes(t, "taken again", e.Take(), nil)
 	}
@@ -80,16 +69,7 @@ func TestFeedKeepsNoArgument(t *testing.T) {
 	b, want := file(few(), string(sample.Story(30000)), "", string(sample.Noise(3000)), "end")
 	for _, size := range []int{1, 10, 1000, len(b)} {
 		d := gzip.NewDecoder(far)
-		array := make([]byte, size+5)
-		for part := range slices.Chunk(b, size) {
-			n := copy(array, part)
-			copy(array[n:], "spare")
-			d.Feed(array[:n])
-			if !bytes.Equal(array[:n], part) || string(array[n:n+5]) != "spare" {
-				t.Fatal("the argument was changed")
-			}
-			spoil(array)
-		}
+		expect.Lend(t, b, size, d.Feed)
 		d.End()
 		var got result
 		got.out, got.err = takeAll(t, d, 999)
@@ -106,20 +86,18 @@ func TestResultsOfTheDecoder(t *testing.T) {
 		d := gzip.NewDecoder(far)
 		d.Feed(b)
 		d.End()
-		var results [][]byte
+		var results expect.Results
 		for i := 0; i < len(want.out); i += n {
 			b, _ := d.Take(n)
 			wantBytes(t, fmt.Sprintf("Take(%d)", n), b, want.out[i:min(i+n, len(want.out))])
 			if i/n%2 == 0 {
 				spoil(b)
 			} else {
-				results = append(results, b, bytes.Clone(b))
+				results.Add(b)
 			}
 		}
 		wantTake(t, d, n, "", api.ErrDone)
-		for pair := range slices.Chunk(results, 2) {
-			wantBytes(t, "earlier result", pair[0], pair[1])
-		}
+		results.Check(t)
 	}
 }
 

@@ -142,6 +142,3 @@ func few() []known {
 		flagged(2, "", "", ""), flagged(20, "\x1f\x8b\x08", "", "note"),
 	}
 }
-
-// spoil changes bytes, and those of the spare capacity.
-var spoil = sample.Spoil

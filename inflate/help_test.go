@@ -8,6 +8,7 @@ import (
 	"concertina/api"
 	"concertina/inflate"
 	"concertina/internal/expect"
+	"concertina/internal/sample"
 )
 
 // far is a limit that no output of the tests reaches.
@@ -16,21 +17,17 @@ const far = 1 << 30
 // everything is more than any output of the tests has.
 const everything = 1 << 40
 
-// wantBytes and wantErr compare bytes and an error; short shortens bytes for a
-// message.
+// What the tests of other packages need as well.
 var (
 	wantBytes = expect.Bytes
 	wantErr   = expect.Err
+	wantTake  = expect.Take
+	takeAll   = expect.All
 	short     = expect.Short
+	prefixes  = sample.Prefixes
+	always    = sample.Always
+	spoil     = sample.Spoil
 )
-
-// wantTake takes n bytes, and compares them and the error.
-func wantTake(t *testing.T, d *inflate.Decoder, n int, want string, err api.Errno) {
-	t.Helper()
-	b, got := d.Take(n)
-	wantBytes(t, fmt.Sprintf("Take(%d)", n), b, []byte(want))
-	wantErr(t, fmt.Sprintf("Take(%d)", n), got, err)
-}
 
 // wantSame compares what streams come to.
 func wantSame(t *testing.T, what string, got, want result) {
@@ -49,23 +46,6 @@ func whole(b []byte, most int) result {
 	return result{out, err, rest}
 }
 
-// takeAll takes what a decoder has, n bytes at once, and returns it with the
-// error behind it.
-func takeAll(t *testing.T, d *inflate.Decoder, n int) ([]byte, api.Errno) {
-	t.Helper()
-	var all []byte
-	for {
-		b, err := d.Take(n)
-		all = append(all, b...)
-		if len(b) > n || (err == api.OK) != (len(b) == n) || len(b) > 0 && err != api.OK && err != api.ErrEnd {
-			t.Fatalf("Take(%d) after %d bytes: %d bytes, error %d", n, len(all)-len(b), len(b), err)
-		}
-		if len(b) == 0 {
-			return all, err
-		}
-	}
-}
-
 // inParts returns what a stream comes to that is fed in parts of some sizes, of
 // which the next ones are asked for again and again, while its output is taken n
 // bytes at once.
@@ -73,29 +53,12 @@ func inParts(t *testing.T, b []byte, most int, next func() int, n int) result {
 	t.Helper()
 	d := inflate.New(most)
 	var x result
-	for {
-		size := min(next(), len(b))
-		d.Feed(b[:size])
-		b = b[size:]
-		out, err := takeAll(t, d, n)
-		x.out, x.err = append(x.out, out...), err
-		if len(b) == 0 {
-			break
-		}
-	}
-	wantTake(t, d, 0, "", api.OK)
-	for _, n := range []int{1, everything} {
-		wantTake(t, d, n, "", x.err)
-	}
+	x.out, x.err = expect.Decode(t, d, b, next, n, func() {})
+	expect.Stays(t, d, x.err)
 	x.rest = d.Rest()
 	wantBytes(t, "second rest", d.Rest(), nil)
 	wantTake(t, d, n, "", x.err)
 	return x
-}
-
-// always returns a function that returns the same number again and again.
-func always(n int) func() int {
-	return func() int { return n }
 }
 
 // wantResult compares what a stream comes to, as a whole and in parts.
@@ -124,20 +87,6 @@ func wantData(t *testing.T, what string, b, want []byte) {
 		wantErr(t, fmt.Sprintf("%s, %d of %d bytes", what, i, len(b)), x.err, api.ErrEnd)
 		if !bytes.HasPrefix(want, x.out) || x.rest != nil {
 			t.Errorf("%s, %d of %d bytes: %d bytes %q, %d bytes rest", what, i, len(b), len(x.out), short(x.out), len(x.rest))
-		}
-	}
-}
-
-// prefixes returns the lengths of proper beginnings of b: of all if they are few.
-func prefixes(b []byte) func(func(int) bool) {
-	return func(yield func(int) bool) {
-		for i := 0; i < len(b); i += max(len(b)/300, 1) {
-			if !yield(i) {
-				return
-			}
-		}
-		if len(b) > 0 {
-			yield(len(b) - 1)
 		}
 	}
 }

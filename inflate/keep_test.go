@@ -11,6 +11,7 @@ import (
 	"concertina/api"
 	"concertina/deflate"
 	"concertina/inflate"
+	"concertina/internal/expect"
 	"concertina/internal/sample"
 )
 
@@ -44,9 +45,6 @@ func TestZeroDecoder(t *testing.T) {
 	wantTake(t, d, 1, "", api.ErrCap)
 }
 
-// spoil changes bytes, and those of the spare capacity.
-var spoil = sample.Spoil
-
 // R4: what is fed isn't changed, with its spare capacity, and may be changed by the
 // caller afterwards.
 func TestFeedKeepsNoArgument(t *testing.T) {
@@ -54,16 +52,7 @@ func TestFeedKeepsNoArgument(t *testing.T) {
 	b := append(deflate.Whole(want, 6), behind...)
 	for _, size := range []int{1, 10, 1000, len(b)} {
 		d := inflate.New(far)
-		array := make([]byte, size+5)
-		for part := range slices.Chunk(b, size) {
-			n := copy(array, part)
-			copy(array[n:], "spare")
-			d.Feed(array[:n])
-			if !bytes.Equal(array[:n], part) || string(array[n:n+5]) != "spare" {
-				t.Fatal("the argument was changed")
-			}
-			spoil(array)
-		}
+		expect.Lend(t, b, size, d.Feed)
 		out, err := takeAll(t, d, 999)
 		wantErr(t, "Take", err, api.ErrDone)
 		wantBytes(t, fmt.Sprintf("parts of %d bytes", size), out, want)
@@ -101,14 +90,14 @@ func TestResultsAreNewMemory(t *testing.T) {
 		for _, n := range []int{1, 7, 1000, 40000} {
 			d := inflate.New(far)
 			d.Feed(append(deflate.Whole(want, 6), behind...))
-			var results [][]byte
+			var results expect.Results
 			for i := 0; i < len(want); i += n {
 				b, _ := d.Take(n)
 				wantBytes(t, fmt.Sprintf("%s, Take(%d)", name, n), b, want[i:min(i+n, len(want))])
 				if i/n%2 == 0 {
 					spoil(b)
 				} else {
-					results = append(results, b, bytes.Clone(b))
+					results.Add(b)
 				}
 			}
 			wantTake(t, d, n, "", api.ErrDone)
@@ -116,9 +105,7 @@ func TestResultsAreNewMemory(t *testing.T) {
 			wantBytes(t, "rest", rest, []byte(behind))
 			spoil(rest)
 			d.Feed([]byte(behind))
-			for pair := range slices.Chunk(results, 2) {
-				wantBytes(t, name+", earlier result", pair[0], pair[1])
-			}
+			results.Check(t)
 			wantBytes(t, "rest again", d.Rest(), []byte(behind))
 		}
 	}

@@ -72,6 +72,28 @@ func Inputs() map[string][]byte {
 	}
 }
 
+// Prefixes returns the lengths of proper beginnings of b: of all if they are few,
+// and otherwise of some, with the longest ones.
+func Prefixes(b []byte) func(func(int) bool) {
+	return func(yield func(int) bool) {
+		for i := 0; i < len(b); i += max(len(b)/300, 1) {
+			if !yield(i) {
+				return
+			}
+		}
+		for i := max(len(b)-20, 0); i < len(b); i++ {
+			if !yield(i) {
+				return
+			}
+		}
+	}
+}
+
+// Always returns a function that returns the same number again and again.
+func Always(n int) func() int {
+	return func() int { return n }
+}
+
 // Spoil changes bytes, and those of the spare capacity. To do it again does not
 // undo it.
 func Spoil(b []byte) {

@@ -55,3 +55,38 @@ func TestSpoil(t *testing.T) {
 		}
 	}
 }
+
+// Prefixes has the length of each proper beginning of few bytes, and of many those
+// from all over, with the longest ones.
+func TestPrefixes(t *testing.T) {
+	for _, n := range []int{0, 1, 2, 19, 20, 21, 300, 599, 600, 5000, 100000} {
+		seen := map[int]bool{}
+		for i := range sample.Prefixes(make([]byte, n)) {
+			if i < 0 || i >= n {
+				t.Errorf("of %d bytes, %d", n, i)
+			}
+			seen[i] = true
+		}
+		for i := range n {
+			if !seen[i] && (n < 600 || i >= n-20) {
+				t.Errorf("of %d bytes, not %d", n, i)
+			}
+		}
+		if n > 600 && (len(seen) < 300 || len(seen) > 700) {
+			t.Errorf("of %d bytes, %d lengths", n, len(seen))
+		}
+	}
+	for range sample.Prefixes(make([]byte, 5)) {
+		break
+	}
+}
+
+// Always has its number each time.
+func TestAlways(t *testing.T) {
+	five, six := sample.Always(5), sample.Always(6)
+	for range 3 {
+		if five() != 5 || six() != 6 {
+			t.Error("another number")
+		}
+	}
+}
