@@ -215,23 +215,12 @@ func TestEncoderTake(t *testing.T) {
 // P13.2: after Close there is nothing more to write or to close; what was not taken
 // yet stays, and nothing comes to it.
 func TestAfterClose(t *testing.T) {
+	h := api.Header{Sum: true}
 	for _, data := range [][]byte{nil, []byte("abc"), sample.Story(40000)} {
 		for level := range levels {
-			for _, taken := range []bool{false, true} {
-				e := newEncoder(t, level, api.Header{Sum: true})
-				write(t, e, data)
-				var all []byte
-				if taken {
-					all = e.Take()
-				}
-				wantErr(t, "Close", e.Close(), api.OK)
-				for range 2 {
-					wantDone(t, e)
-				}
-				all = append(all, e.Take()...)
-				wantBytes(t, "member", all, encoded(t, level, api.Header{Sum: true}, data))
-				wantDone(t, e)
-				wantBytes(t, "taken again", e.Take(), nil)
+			for _, early := range []bool{false, true} {
+				all := expect.AfterClose(t, newEncoder(t, level, h), data, early)
+				wantBytes(t, "member", all, encoded(t, level, h, data))
 			}
 		}
 	}
@@ -239,12 +228,6 @@ func TestAfterClose(t *testing.T) {
 
 // P13.3: a nil encoder is done. R1: so is one that New did not make.
 func TestNoEncoder(t *testing.T) {
-	for _, e := range []*gzip.Encoder{nil, new(gzip.Encoder)} {
-		for range 2 {
-			wantDone(t, e)
-			if b := e.Take(); b != nil {
-				t.Errorf("Take: %q", b)
-			}
-		}
-	}
+	expect.NoEncoder(t, (*gzip.Encoder)(nil))
+	expect.NoEncoder(t, new(gzip.Encoder))
 }

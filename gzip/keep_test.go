@@ -39,27 +39,8 @@ func TestResultsOfTheEncoder(t *testing.T) {
 	data := sample.Story(100000)
 	x := flagged(31, "extra", "name", "comment")
 	for level := range levels {
-		e, again := newEncoder(t, level, x.h), newEncoder(t, level, x.h)
-		var all []byte
-		var results expect.Results
-		take := func() {
-			b := e.Take()
-			all = append(all, b...)
-			results.Add(b)
-			spoil(again.Take())
-		}
-		take()
-		for part := range slices.Chunk(data, 20000) {
-			write(t, e, part)
-			write(t, again, part)
-			take()
-		}
-		wantErr(t, "Close", e.Close(), api.OK)
-		wantErr(t, "Close", again.Close(), api.OK)
-		take()
-		results.Check(t)
+		all := expect.Apart(t, newEncoder(t, level, x.h), newEncoder(t, level, x.h), data, 20000)
 		wantMember(t, fmt.Sprint("level ", level), all, x, data)
-		wantBytes(t, "taken again", e.Take(), nil)
 	}
 }
 

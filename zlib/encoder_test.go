@@ -222,21 +222,9 @@ func TestEncoderTake(t *testing.T) {
 func TestAfterClose(t *testing.T) {
 	for _, data := range [][]byte{nil, []byte("abc"), sample.Story(40000)} {
 		for level := range levels {
-			for _, taken := range []bool{false, true} {
-				e := zlib.New(level)
-				write(t, e, data)
-				var all []byte
-				if taken {
-					all = e.Take()
-				}
-				wantErr(t, "Close", e.Close(), api.OK)
-				for range 2 {
-					wantDone(t, e)
-				}
-				all = append(all, e.Take()...)
+			for _, early := range []bool{false, true} {
+				all := expect.AfterClose(t, zlib.New(level), data, early)
 				wantBytes(t, "file", all, encoded(t, level, data))
-				wantDone(t, e)
-				wantBytes(t, "taken again", e.Take(), nil)
 			}
 		}
 	}
@@ -244,12 +232,6 @@ func TestAfterClose(t *testing.T) {
 
 // P14.2: a nil encoder is done. R1: so is one that New did not make.
 func TestNoEncoder(t *testing.T) {
-	for _, e := range []*zlib.Encoder{nil, new(zlib.Encoder)} {
-		for range 2 {
-			wantDone(t, e)
-			if b := e.Take(); b != nil {
-				t.Errorf("Take: %q", b)
-			}
-		}
-	}
+	expect.NoEncoder(t, (*zlib.Encoder)(nil))
+	expect.NoEncoder(t, new(zlib.Encoder))
 }

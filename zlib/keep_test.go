@@ -32,27 +32,8 @@ func TestEncoderKeepsNoArgument(t *testing.T) {
 func TestResultsOfTheEncoder(t *testing.T) {
 	data := sample.Story(100000)
 	for level := range levels {
-		e, again := zlib.New(level), zlib.New(level)
-		var all []byte
-		var results expect.Results
-		take := func() {
-			b := e.Take()
-			all = append(all, b...)
-			results.Add(b)
-			spoil(again.Take())
-		}
-		take()
-		for part := range slices.Chunk(data, 20000) {
-			write(t, e, part)
-			write(t, again, part)
-			take()
-		}
-		wantErr(t, "Close", e.Close(), api.OK)
-		wantErr(t, "Close", again.Close(), api.OK)
-		take()
-		results.Check(t)
+		all := expect.Apart(t, zlib.New(level), zlib.New(level), data, 20000)
 		wantEncoded(t, fmt.Sprint("level ", level), all, data)
-		wantBytes(t, "taken again", e.Take(), nil)
 		// The first bytes of the next encoder are other memory.
 		wantEncoded(t, "next encoder", encoded(t, level, data), data)
 	}

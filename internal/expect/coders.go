@@ -55,6 +55,61 @@ func Encode(t T, e Encoder, data []byte, size, times func() int) []byte {
 	return append(all, Closed(t, e)...)
 }
 
+// AfterClose writes data, takes what there is if early is true, and closes an encoder.
+// It looks whether nothing can be written or closed any more, while what was not
+// taken stays, and returns all of the output.
+func AfterClose(t T, e Encoder, data []byte, early bool) []byte {
+	t.Helper()
+	var all []byte
+	Write(t, e, data)
+	if early {
+		all = e.Take()
+	}
+	Err(t, "Close", e.Close(), api.OK)
+	Done(t, e)
+	Done(t, e)
+	all = append(all, e.Take()...)
+	Done(t, e)
+	Bytes(t, "taken again", e.Take(), nil)
+	return all
+}
+
+// NoEncoder looks whether an encoder is done from the beginning, without any output.
+func NoEncoder(t T, e Encoder) {
+	t.Helper()
+	for range 2 {
+		Done(t, e)
+		Bytes(t, "output", e.Take(), nil)
+	}
+}
+
+// Apart writes data in parts of one size, and looks whether no result is changed by a
+// later call, and no later call by what happens to a result of the encoder or of
+// another one that does the same. It returns all of the output.
+func Apart(t T, e, other Encoder, data []byte, size int) []byte {
+	t.Helper()
+	var all []byte
+	var results Results
+	take := func() {
+		b := e.Take()
+		all = append(all, b...)
+		results.Add(b)
+		sample.Spoil(other.Take())
+	}
+	take()
+	for part := range slices.Chunk(data, size) {
+		Write(t, e, part)
+		Write(t, other, part)
+		take()
+	}
+	Err(t, "Close", e.Close(), api.OK)
+	Err(t, "Close", other.Close(), api.OK)
+	take()
+	results.Check(t)
+	Bytes(t, "taken again", e.Take(), nil)
+	return all
+}
+
 // Taker is what has an output that is taken in parts.
 type Taker interface {
 	Take(n int) ([]byte, api.Errno)

@@ -2,6 +2,7 @@ package expect_test
 
 import (
 	"fmt"
+	"slices"
 	"strings"
 	"testing"
 
@@ -130,6 +131,67 @@ func TestEncoder(t *testing.T) {
 	n = nil
 	expect.Done(&n, new(encoder))
 	wantNotes(t, n, "Write: error 0 instead of 8", "Write: error 0 instead of 8", "Write: error 0 instead of 8", "Close: error 0 instead of 8")
+}
+
+// A closed encoder keeps its output, but takes no more data.
+func TestAfterClose(t *testing.T) {
+	var n notes
+	for _, early := range []bool{false, true} {
+		b := expect.AfterClose(&n, new(encoder), []byte("abc"), early)
+		expect.Bytes(&n, "output", b, []byte("abc"))
+	}
+	wantNotes(t, n)
+	expect.AfterClose(&n, &endless{}, nil, false)
+	want := append(notes{}, slices.Repeat([]string{"Write: error 0 instead of 8", "Write: error 0 instead of 8", "Write: error 0 instead of 8", "Close: error 0 instead of 8"}, 3)...)
+	wantNotes(t, n, append(want, `taken again: 1 bytes "x" instead of 0 bytes ""`)...)
+}
+
+// endless is an encoder that is never done.
+type endless struct{}
+
+func (endless) Write(b []byte) api.Errno { return api.OK }
+func (endless) Close() api.Errno         { return api.OK }
+func (endless) Take() []byte             { return []byte("x") }
+
+// An encoder that is done has neither room nor output.
+func TestNoEncoder(t *testing.T) {
+	var n notes
+	expect.NoEncoder(&n, &encoder{store{closed: true}})
+	wantNotes(t, n)
+	expect.NoEncoder(&n, &encoder{store{closed: true, supply: supply{b: []byte("abc")}}})
+	wantNotes(t, n, `output: 3 bytes "abc" instead of 0 bytes ""`)
+}
+
+// sharing is an encoder whose results are the same memory.
+type sharing struct {
+	encoder
+	memory *[1]byte
+}
+
+func (s *sharing) Take() []byte {
+	b := s.memory[:0]
+	return append(b, s.encoder.Take()...)
+}
+
+// Results of encoders share no memory, neither with each other nor with those of
+// other encoders.
+func TestApart(t *testing.T) {
+	var n notes
+	b := expect.Apart(&n, new(encoder), new(encoder), []byte("abcdef"), 4)
+	expect.Bytes(&n, "output", b, []byte("abcdef"))
+	wantNotes(t, n)
+	one, two := new([1]byte), new([1]byte)
+	for _, other := range []*[1]byte{one, two} {
+		expect.Apart(&n, &sharing{memory: one}, &sharing{memory: other}, []byte("ab"), 1)
+		if len(n) == 0 || !strings.HasPrefix(n[0], "earlier result: 1 bytes") {
+			t.Errorf("%q", n)
+		}
+		n = nil
+	}
+	expect.Apart(&n, new(encoder), &sharing{memory: one}, []byte("ab"), 1)
+	wantNotes(t, n)
+	expect.Apart(&n, &endless{}, new(encoder), nil, 1)
+	wantNotes(t, n, `taken again: 1 bytes "x" instead of 0 bytes ""`)
 }
 
 // All parts are written, of the sizes that are asked for, and all output is taken.
